@@ -1,0 +1,1 @@
+"""Monochord: a lossless audio codec."""

@@ -1,0 +1,93 @@
+"""The names, arguments and places of what the interface lists."""
+
+import importlib
+import inspect
+import unittest
+
+ERRORS = (
+    "MonochordError", "Truncated", "NotAStream", "LostSync", "ReservedValue", "InvalidForm", "HeaderChecksum",
+    "FrameChecksum", "OutOfRange", "OutOfOrder", "Disagreement", "DigestMismatch", "TooLong", "InvalidText",
+    "InvalidCueSheet", "InvalidPage", "InvalidEdit",
+)
+
+# For each module its functions, as they stand in the interface.
+FUNCTIONS = {
+    "checksums": ("crc8(data, start=0)", "crc16(data, start=0)", "crc32(data, start=0)"),
+    "digest": ("md5(data)", "sample_bytes(channels, depth)"),
+    "coded": ("write_number(number)", "read_number(reader)"),
+    "rice": ("fold(n)", "unfold(u)", "code_length(k, n)", "write_code(writer, k, n)", "read_code(reader, k)"),
+    "residual": (
+        "legal_partition_order(size, order, partition_order)", "partition_sizes(size, order, partition_order)",
+        "plan_fits(plan, residuals, order)", "residual_bits(plan, residuals, order)",
+        "write_residuals(writer, plan, residuals, order)", "read_residuals(reader, size, order)",
+    ),
+    "fixed": ("fixed_residuals(samples, order)", "fixed_samples(warm_up, residuals, *, limit=None)"),
+    "linear": (
+        "precision(coefficients)", "linear_residuals(samples, coefficients, shift)",
+        "linear_samples(warm_up, residuals, coefficients, shift, *, limit=None)",
+    ),
+    "subframe": (
+        "write_subframe(writer, depth, samples, subframe)", "read_subframe(reader, depth, size)",
+        "subframe_bits(depth, samples, subframe)",
+    ),
+}
+
+# For each module its classes with their methods.
+CLASSES = {
+    "errors": {f"{name}(place)": () for name in ERRORS},
+    "audio": {"Audio(rate, depth, channels)": ("length()", "rows(start, stop)", "__eq__(other)")},
+    "bits": {
+        "BitWriter()": (
+            "write(width, value)", "write_signed(width, value)", "write_unary(count)", "pad()", "append_bytes(data)",
+            "byte_list()", "bits_written()",
+        ),
+        "BitReader(data, at=0)": (
+            "read(width)", "read_signed(width)", "read_unary()", "read_bytes(count)", "since(place)",
+            "skip_padding()", "byte_place()", "bit_place()", "aligned()",
+        ),
+    },
+    "digest": {"Md5()": ("feed(data)", "digest()")},
+    "subframe": {
+        "Subframe(kind, *, order=0, precision=0, shift=0, coefficients=(), plan=None, wasted=0)": ("__eq__(other)",),
+    },
+}
+
+
+def found(module, text):
+    """What a module has under the name with which a text begins."""
+    return getattr(importlib.import_module(f"monochord.{module}"), text.partition("(")[0])
+
+
+class InterfaceTest(unittest.TestCase):
+    def check_signature(self, text, thing):
+        """Check that a function, a class or a method of an object takes the arguments of a text."""
+        self.assertEqual(text, text.partition("(")[0] + str(inspect.signature(thing)))
+
+    def test_functions(self):
+        for module, texts in FUNCTIONS.items():
+            for text in texts:
+                with self.subTest(text):
+                    function = found(module, text)
+                    self.assertTrue(inspect.isfunction(function))
+                    self.assertEqual(f"monochord.{module}", function.__module__)
+                    self.check_signature(text, function)
+
+    def test_classes(self):
+        for module, classes in CLASSES.items():
+            for text in classes:
+                with self.subTest(text):
+                    kind = found(module, text)
+                    self.assertTrue(inspect.isclass(kind))
+                    self.assertEqual(f"monochord.{module}", kind.__module__)
+                    self.check_signature(text, kind)
+
+    def test_methods_are_defined_in_the_class_itself(self):
+        for module, classes in CLASSES.items():
+            for text, methods in classes.items():
+                kind = found(module, text)
+                for method in methods:
+                    with self.subTest(text, method=method):
+                        function = kind.__dict__[method.partition("(")[0]]
+                        self.assertTrue(inspect.isfunction(function))
+                        inside = method.replace("(", "(self, ").replace(", )", ")")
+                        self.check_signature(inside, function)
