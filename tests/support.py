@@ -44,6 +44,17 @@ def picker(seed):
     return random.Random(seed)
 
 
+class LookAlike:
+    """An object of another class with the attributes of one of the program, and with its fields."""
+
+    def __init__(self, thing):
+        self.__dict__.update(thing.__dict__)
+        self.told = thing.fields() if hasattr(thing, "fields") else ()
+
+    def fields(self):
+        return self.told
+
+
 class Case(unittest.TestCase):
     """A test case with the checks that the tests of this program share."""
 
@@ -64,3 +75,29 @@ class Case(unittest.TestCase):
         result = call(*arguments, **more)
         self.assertEqual(before, (arguments, more))
         return result
+
+    def check_equality(self, kind, attributes, changes):
+        """Check the attributes of an object and what it is equal to.
+
+        `attributes` are all arguments of its class, and `changes` are pairs of one of their names and another value.
+        """
+        one = kind(**attributes)
+        for name, value in attributes.items():
+            self.assertEqual(value, getattr(one, name), name)
+        same = kind(**copy.deepcopy(attributes))
+        self.assertIs(True, one == same)
+        self.assertIs(False, one != same)
+        self.assertEqual(sorted(attributes), sorted({name for name, _ in changes}))
+        for name, value in changes:
+            with self.subTest(name, value=value):
+                other = kind(**{**attributes, name: value})
+                self.assertIs(False, one == other)
+                self.assertIs(False, other == one)
+                self.assertIs(True, one != other)
+        values = list(attributes.values())
+        for other in (None, 0, 1, "", kind.__name__, values, tuple(values), attributes, kind, LookAlike(one)):
+            with self.subTest(other):
+                self.assertIs(False, one == other)
+                self.assertIs(False, other == one)
+                self.assertIs(True, one != other)
+        self.assertEqual(attributes, {name: getattr(one, name) for name in attributes})

@@ -1,7 +1,11 @@
-"""The examples of the interface, as they stand in the document."""
+"""The examples of the interface, as they stand in the document, and those of README.md."""
 
 import doctest
+import os
+import re
 import unittest
+
+README = os.path.join(os.path.dirname(os.path.dirname(os.path.abspath(__file__))), "README.md")
 
 BITS = """
 >>> from monochord.bits import BitWriter, BitReader
@@ -97,9 +101,100 @@ SUBFRAME = """
 22
 """
 
+STEREO = """
+>>> from monochord.stereo import split, join
+>>> split("mid-side", [5, -4], [2, -1])
+([3, -3], [3, -3])
+
+>>> join("mid-side", [3, -3], [3, -3])
+([5, -4], [2, -1])
+"""
+
+HEADER = """
+>>> from monochord.header import FrameHeader, write_header
+>>> header = FrameHeader(variable=False, block_size=192, rate=44100, channels=1,
+...     assignment="independent", depth=16, number=0)
+>>> write_header(header)[:5]
+[255, 248, 25, 8, 0]
+"""
+
+FRAME = """
+>>> from monochord.frame import write_frame
+>>> from monochord.header import FrameHeader
+>>> from monochord.subframe import Subframe
+>>> header = FrameHeader(variable=False, block_size=2, rate=8000, channels=1,
+...     assignment="independent", depth=8, number=0)
+>>> len(write_frame(header, [[7, 7]], [Subframe("constant")]))
+11
+"""
+
+STREAMINFO = """
+>>> from monochord.streaminfo import StreamInfo, write_streaminfo
+>>> write_streaminfo(StreamInfo(16, 4096, 0, 14, 44100, 2, 16, 1000, [7] * 16))[:18]
+[0, 16, 16, 0, 0, 0, 0, 0, 0, 14, 10, 196, 66, 240, 0, 0, 3, 232]
+"""
+
+SEEKTABLE = """
+>>> from monochord.seektable import points_for
+>>> points_for([(0, 0, 10), (10, 30, 10), (20, 55, 10), (30, 90, 4)], 15)
+[(0, 0, 10), (10, 30, 10), (30, 90, 4)]
+"""
+
+COMMENTS = """
+>>> from monochord.comments import Comments, write_comments
+>>> write_comments(Comments([86], [([65], [233])]))
+[1, 0, 0, 0, 86, 1, 0, 0, 0, 4, 0, 0, 0, 65, 61, 195, 169]
+
+>>> from monochord.comments import Comments
+>>> Comments([], [([97], [1]), ([66], [2]), ([65], [3])]).with_values([97], [[4], [5]]).entries
+[([97], [4]), ([97], [5]), ([66], [2])]
+"""
+
+PICTURE = """
+>>> from monochord.picture import Picture, write_picture
+>>> write_picture(Picture(3, [97, 47, 98], [233], 1, 2, 24, 0, [9, 8]))
+[0, 0, 0, 3, 0, 0, 0, 3, 97, 47, 98, 0, 0, 0, 2, 195, 169, 0, 0, 0, 1, 0, 0, 0, 2, 0, 0, 0, 24, 0, 0, 0, 0, 0, 0, 0, 2, 9, 8]
+
+>>> from monochord.picture import read_application
+>>> read_application([5, 0, 0, 1, 2, 77], 1, 6)
+(258, [77])
+"""
+
+BLOCKS = """
+>>> from monochord.streaminfo import StreamInfo
+>>> from monochord.blocks import write_blocks
+>>> info = StreamInfo(16, 16, 0, 0, 8000, 1, 8, 0, [0] * 16)
+>>> write_blocks([(0, info), (1, 3)])[42:]
+[129, 0, 0, 3, 0, 0, 0]
+"""
+
+SPECTRUM = """
+>>> from monochord.spectrum import autocorrelation, exact_predictors, quantize, weighted
+>>> autocorrelation(weighted([1, 1, 1]), 2)
+[34, 24, 9]
+>>> exact_predictors([34, 24, 9])
+[([24], 34), ([600, -270], 580)]
+>>> quantize([600, -270], 580, 5)
+([8, -4], 3)
+"""
+
+PARTITION = """
+>>> from monochord.partition import best_entry
+>>> best_entry([0, 0, 0], 0)
+(('rice', 0), 7)
+>>> best_entry([0, 0, 0, 0, 0, 0], 0)
+(('raw', 0), 9)
+
+>>> from monochord.partition import best_coding
+>>> best_coding([0, 1], 0, highest=1, wide=False)
+((0, 0, (('rice', 0),)), 14)
+"""
+
 EXAMPLES = {
     "bits": BITS, "checksums": CHECKSUMS, "digest": DIGEST, "coded": CODED, "rice": RICE, "residual": RESIDUAL,
     "fixed": FIXED, "linear": LINEAR, "subframe": SUBFRAME,
+    "stereo": STEREO, "header": HEADER, "frame": FRAME, "streaminfo": STREAMINFO, "seektable": SEEKTABLE,
+    "comments": COMMENTS, "picture": PICTURE, "blocks": BLOCKS, "spectrum": SPECTRUM, "partition": PARTITION,
 }
 
 
@@ -112,3 +207,10 @@ class ExamplesTest(unittest.TestCase):
                 result = doctest.DocTestRunner(verbose=False).run(example, out=report.append)
                 self.assertGreater(result.attempted, 0)
                 self.assertEqual(0, result.failed, "".join(report))
+
+    def test_examples_of_the_readme(self):
+        with open(README, encoding="ascii") as file:
+            found = re.findall("```python\n(.*?)```", file.read(), flags=re.DOTALL)
+        self.assertEqual(2, len(found))
+        for text in found:
+            exec(compile(text, README, "exec"), {})

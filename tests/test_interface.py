@@ -30,6 +30,41 @@ FUNCTIONS = {
         "write_subframe(writer, depth, samples, subframe)", "read_subframe(reader, depth, size)",
         "subframe_bits(depth, samples, subframe)",
     ),
+    "stereo": (
+        "split(assignment, left, right)", "join(assignment, first, second)", "row_depths(assignment, depth, count)",
+    ),
+    "header": ("write_header(header)", "read_header(reader, rate, depth)", "header_bytes(header)"),
+    "frame": (
+        "write_frame(header, rows, subframes)", "read_frame(reader, rate, depth)",
+        "frame_bytes(header, rows, subframes)",
+    ),
+    "streaminfo": ("read_streaminfo(data, start, stop)", "write_streaminfo(info)"),
+    "seektable": (
+        "read_seektable(data, start, stop)", "write_seektable(points)", "is_ordered(points)",
+        "points_for(frames, every)", "nearest_point(points, sample)",
+    ),
+    "text": ("points_of(string)", "write_utf8(text)", "read_utf8(data, start, stop)"),
+    "comments": ("read_comments(data, start, stop)", "write_comments(comments)"),
+    "cuesheet": (
+        "is_valid_cue(sheet)", "read_cuesheet(data, start, stop)", "write_cuesheet(sheet)",
+        "index_start(sheet, track_number, index_number)", "track_at(sheet, sample)",
+    ),
+    "picture": (
+        "read_picture(data, start, stop)", "write_picture(picture)", "read_padding(data, start, stop)",
+        "read_application(data, start, stop)", "write_application(application)",
+    ),
+    "blocks": (
+        "read_blocks(data, at=0)", "read_marker(data, at)", "read_block(data, at, earlier)", "write_blocks(blocks)",
+        "write_body(block)", "body_length(block)", "is_regular(blocks)", "blocks_of(blocks, kind)",
+    ),
+    "spectrum": (
+        "weighted(samples)", "autocorrelation(values, most)", "exact_predictors(correlation)",
+        "quantize(numerators, denominator, precision)", "predictors(samples, most, precision)",
+    ),
+    "partition": (
+        "rice_bits(residuals, k)", "raw_width(residuals)", "best_entry(residuals, method)",
+        "best_coding(residuals, order, *, highest, wide)",
+    ),
 }
 
 # For each module its classes with their methods.
@@ -49,6 +84,23 @@ CLASSES = {
     "digest": {"Md5()": ("feed(data)", "digest()")},
     "subframe": {
         "Subframe(kind, *, order=0, precision=0, shift=0, coefficients=(), plan=None, wasted=0)": ("__eq__(other)",),
+    },
+    "header": {
+        "FrameHeader(*, variable, block_size, rate, channels, assignment, depth, number)": ("__eq__(other)",),
+    },
+    "streaminfo": {
+        "StreamInfo(least_block, greatest_block, least_frame, greatest_frame, rate, channel_count, depth, length, "
+        "digest)": ("fields()", "fixed_size()", "__eq__(other)"),
+    },
+    "comments": {
+        "Comments(vendor, entries)": ("values_of(name)", "with_values(name, values)", "__eq__(other)"),
+    },
+    "cuesheet": {
+        "CueTrack(offset, number, code, is_audio, emphasis, indexes)": ("fields()", "__eq__(other)"),
+        "CueSheet(catalog, lead_in, is_disc, tracks)": ("__eq__(other)",),
+    },
+    "picture": {
+        "Picture(use, media, description, width, height, bits, colours, content)": ("fields()", "__eq__(other)"),
     },
 }
 
