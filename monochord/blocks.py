@@ -115,6 +115,11 @@ def body_length(block):
     return len(write_body(block))
 
 
+def metadata_bytes(blocks):
+    """The number of bytes of the metadata of some blocks, with the marker."""
+    return len(_MARKER) + sum([_HEAD_LENGTH + body_length(block) for block in blocks])
+
+
 def is_regular(blocks):
     """True if the blocks may be the metadata of a stream."""
     kinds = [kind for kind, _ in blocks]

@@ -71,3 +71,34 @@ class InvalidPage(MonochordError):
 
 class InvalidEdit(MonochordError):
     """An act cannot be applied to the blocks."""
+
+
+def raise_named(name, place):
+    """Raise the error with a name, one of those with which decoding ends."""
+    if name == "Truncated":
+        raise Truncated(place)
+    if name == "NotAStream":
+        raise NotAStream(place)
+    if name == "LostSync":
+        raise LostSync(place)
+    if name == "ReservedValue":
+        raise ReservedValue(place)
+    if name == "InvalidForm":
+        raise InvalidForm(place)
+    if name == "HeaderChecksum":
+        raise HeaderChecksum(place)
+    if name == "FrameChecksum":
+        raise FrameChecksum(place)
+    if name == "OutOfRange":
+        raise OutOfRange(place)
+    if name == "OutOfOrder":
+        raise OutOfOrder(place)
+    if name == "Disagreement":
+        raise Disagreement(place)
+    if name == "DigestMismatch":
+        raise DigestMismatch(place)
+    if name == "InvalidText":
+        raise InvalidText(place)
+    if name == "InvalidCueSheet":
+        raise InvalidCueSheet(place)
+    raise MonochordError(place)

@@ -190,11 +190,97 @@ PARTITION = """
 ((0, 0, (('rice', 0),)), 14)
 """
 
+CHOICE = """
+>>> from monochord.choice import wasted_bits
+>>> wasted_bits([12, -8, 0])
+2
+"""
+
+LAYOUT = """
+>>> from monochord.settings import Settings
+>>> from monochord.layout import block_sizes, size_range
+>>> s = Settings(16, block_sizes=[20, 16])
+>>> (block_sizes(60, s), size_range(60, s))
+([20, 16, 20, 4], (16, 20))
+"""
+
+ENCODER = """
+>>> from monochord.encoder import frame_list
+>>> frame_list([16, 16, 8], [30, 20, 9])
+[(0, 0, 16), (16, 30, 16), (32, 50, 8)]
+
+>>> from monochord.audio import Audio
+>>> from monochord.encoder import encode_frame
+>>> from monochord.settings import Settings
+>>> len(encode_frame(Audio(8000, 8, [[5] * 16]), 0, 16, 0, Settings(16)))
+11
+"""
+
+DECODER = """
+>>> from monochord.decoder import decode
+>>> decode([102, 76, 1]).fault
+('NotAStream', 0)
+
+>>> decode([102, 76]).fault
+('Truncated', 2)
+"""
+
+FEEDING = """
+>>> from monochord.feeding import Feeder
+>>> feeder = Feeder()
+>>> feeder.feed([102, 76])
+[]
+>>> feeder.feed([1])
+[('fault', 'NotAStream', 0)]
+>>> feeder.finish()
+[]
+"""
+
+SEEKING = """
+>>> from monochord.audio import Audio
+>>> from monochord.encoder import encode
+>>> from monochord.settings import Settings
+>>> from monochord.seeking import find_frame, decode_from
+>>> data = encode(Audio(8000, 8, [list(range(40))]), Settings(16), [])
+>>> find_frame(data, 35)[1:]
+(32, 8)
+>>> decode_from(data, 37)
+[[37, 38, 39]]
+"""
+
+OGG = """
+>>> from monochord.ogg import lace
+>>> [len(segment) for segment in lace([1] * 510)]
+[255, 255, 0]
+"""
+
+WAVE = """
+>>> from monochord.audio import Audio
+>>> from monochord.wave import write_wave
+>>> write_wave(Audio(8000, 8, [[0, -128]]))[20:]
+[1, 0, 1, 0, 64, 31, 0, 0, 64, 31, 0, 0, 1, 0, 8, 0, 100, 97, 116, 97, 2, 0, 0, 0, 128, 0]
+"""
+
+LIMITS = """
+>>> from monochord.limits import frame_limit
+>>> frame_limit(16, 2, 16)
+84
+"""
+
+CONSOLE = """
+>>> from monochord.console import Console
+>>> console = Console()
+>>> console.execute_all(["append 5 5 5", "encode", "seek 2", "seek 3", "from 1", "cut 2", "decode"])
+['length 3', 'bytes 53', 'frame 42 0 3', 'none', 'channel 5 5', 'bytes 2', 'frames 0', 'samples 0', 'fault Truncated 2']
+"""
+
 EXAMPLES = {
     "bits": BITS, "checksums": CHECKSUMS, "digest": DIGEST, "coded": CODED, "rice": RICE, "residual": RESIDUAL,
     "fixed": FIXED, "linear": LINEAR, "subframe": SUBFRAME,
     "stereo": STEREO, "header": HEADER, "frame": FRAME, "streaminfo": STREAMINFO, "seektable": SEEKTABLE,
     "comments": COMMENTS, "picture": PICTURE, "blocks": BLOCKS, "spectrum": SPECTRUM, "partition": PARTITION,
+    "choice": CHOICE, "layout": LAYOUT, "encoder": ENCODER, "decoder": DECODER, "feeding": FEEDING,
+    "seeking": SEEKING, "ogg": OGG, "wave": WAVE, "limits": LIMITS, "console": CONSOLE,
 }
 
 

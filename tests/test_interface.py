@@ -65,6 +65,33 @@ FUNCTIONS = {
         "rice_bits(residuals, k)", "raw_width(residuals)", "best_entry(residuals, method)",
         "best_coding(residuals, order, *, highest, wide)",
     ),
+    "choice": (
+        "wasted_bits(samples)", "best_subframe(samples, depth, settings)", "best_pair(left, right, depth, settings)",
+    ),
+    "layout": ("block_sizes(length, settings)", "block_starts(sizes)", "size_range(length, settings)"),
+    "encoder": (
+        "encode_frame(audio, start, size, number, settings)", "encode_frames(audio, settings)",
+        "frame_list(sizes, lengths)", "stream_info(audio, settings, lengths)", "encode(audio, settings, blocks)",
+    ),
+    "decoder": ("decode(data)", "check_frame(info, earlier, header, length)"),
+    "feeding": ("decode_pieces(pieces)",),
+    "seeking": (
+        "first_sample(header, first_header)", "start_point(data, sample)", "find_frame(data, sample)",
+        "decode_from(data, sample)", "salvage(data)",
+    ),
+    "ogg": (
+        "lace(packet)", "write_page(page)", "read_page(data, at)", "to_ogg(data, *, serial, segments=255)",
+        "from_ogg(data)",
+    ),
+    "editing": (
+        "apply_act(blocks, act)", "edit(data, acts, reserve=None)", "metadata_length(data)", "frame_bytes(data)",
+    ),
+    "wave": ("write_wave(audio)", "read_wave(data)"),
+    "limits": (
+        "frame_limit(size, channels, depth)", "stream_metadata_length(length, settings, blocks)",
+        "stream_limit(length, channels, depth, settings, blocks)",
+    ),
+    "console": ("parse_number(word)",),
 }
 
 # For each module its classes with their methods.
@@ -102,6 +129,14 @@ CLASSES = {
     "picture": {
         "Picture(use, media, description, width, height, bits, colours, content)": ("fields()", "__eq__(other)"),
     },
+    "settings": {
+        "Settings(block_size, *, block_sizes=None, fixed_order=4, linear_order=0, search=False, precision=12, "
+        "partition_order=4, wide=False, stereo=True, wasted=True, seek_interval=0, vendor='')": ("__eq__(other)",),
+    },
+    "decoder": {"Decoded(info, blocks, audio, frames, fault)": ()},
+    "feeding": {"Feeder()": ("feed(piece)", "finish()", "waiting()")},
+    "ogg": {"Page(flags, granule, serial, number, segments)": ()},
+    "console": {"Console()": ("execute(line)", "execute_all(lines)")},
 }
 
 
