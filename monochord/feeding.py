@@ -51,8 +51,9 @@ class Feeder:
         end = self._start + len(self._held)
         if self._stage != _FRAME or len(self._held) > 0:
             return [self._fault("Truncated", end)]
+        digest = self._samples_digest.digest()
         try:
-            check_end(self._info, self._earlier.samples, self._samples_digest.digest(), end)
+            check_end(self._info, self._earlier.samples, digest, end)
         except MonochordError as error:
             return [self._fault(error.name, error.place)]
         self._stop()
@@ -60,7 +61,7 @@ class Feeder:
 
     def waiting(self):
         """The number of bytes that have arrived and wait for what completes them."""
-        return len(self._held) - self._at
+        return len(self._held)
 
     def _event(self):
         """The next event that the bytes decide, or None."""

@@ -2,8 +2,6 @@
 
 from monochord.errors import Disagreement, DigestMismatch, OutOfOrder
 
-_UNKNOWN_DIGEST = (0,) * 16
-
 
 class Earlier:
     """What the frames before a frame tell: how many they are, their samples, and the sizes of their blocks."""
@@ -57,7 +55,7 @@ def check_behind(info, earlier, header, length, place):
 
 def tells_digest(info):
     """True if the stream info tells a digest."""
-    return tuple(info.digest) != _UNKNOWN_DIGEST
+    return any([byte != 0 for byte in info.digest])
 
 
 def check_end(info, samples, digest, place):

@@ -185,6 +185,15 @@ class SubframeTest(Case):
             left_out += len(quantized) > len([one for one, _ in listed if one.kind == "linear"]) > 0
         self.assertGreater(left_out, 0)
 
+    def test_a_linear_candidate_that_would_be_the_best_is_left_out(self):
+        # The sign changes from sample to sample, but not at one place, where the residual is too large.
+        for top, kind in ((2 ** 32 - 1, "verbatim"), (2 ** 29, "linear")):
+            samples = [(top - at * 3) * (-1) ** (at + (at > 40)) for at in range(64)]
+            settings = Settings(16, linear_order=1, wide=True, fixed_order=0, wasted=False)
+            listed = self.check(samples, 33, settings)
+            self.assertEqual(kind == "linear", "linear" in [one.kind for one, _ in listed])
+            self.assertEqual(kind, best_subframe(samples, 33, settings)[0].kind)
+
     def test_any_depth(self):
         pick = picker(216)
         for depth in range(4, 34):

@@ -19,6 +19,7 @@ class FrameLimitTest(Case):
         self.assertEqual(18 + 1 + 1, frame_limit(2, 1, 4))
         self.assertEqual(18 + 1 + 2, frame_limit(3, 1, 4))
         self.assertEqual(18 + 3 + 2, frame_limit(1, 3, 5))
+        self.assertEqual(18 + 1 + 2, frame_limit(1, 1, 9))
         self.assertEqual(18 + 8 + 65535 * 32, frame_limit(65535, 8, 32))
 
     def test_samples_that_cannot_be_predicted(self):

@@ -232,6 +232,15 @@ class ThereAndBackTest(Case):
         self.assertEqual([0, NONE_ENDS, 300, 600], [page.granule for page in pages])
         self.assertEqual(data, from_ogg(to_ogg(data, serial=0, segments=2)))
 
+    def test_the_most_segments_on_a_page(self):
+        data = stream_of([], blocks=[(1, 255 * 300)])[0]
+        written = to_ogg(data, serial=0)
+        pages = self.pages(written)
+        self.assertEqual([1, 255, 46], [len(page.segments) for page in pages])
+        self.assertEqual([0, NONE_ENDS, 0], [page.granule for page in pages])
+        self.assertEqual(to_ogg(data, serial=0, segments=255), written)
+        self.assertEqual(data, from_ogg(written))
+
     def test_no_frame_and_no_further_block(self):
         pages = self.pages(to_ogg(stream_of([])[0], serial=0))
         self.assertEqual([(6, 0, 0)], [(page.flags, page.granule, page.number) for page in pages])
@@ -443,6 +452,17 @@ class FileTest(Case):
         for number in (1, 4, 65535):
             wrong = first[:7] + [number // 256, number % 256] + first[9:]
             self.check(Disagreement, 0, 35, [(2, [wrong])] + rest)
+
+    def test_byte_13_of_the_first_packet(self):
+        for byte, number in ((127, 2), (0, 2), (1, 2), (128, 0), (129, 0), (255, 0)):
+            for told in (0, 1, 2):
+                first = self.told(told)
+                first[13] = byte
+                pages = [(2, [first])] + self.usual()[1:]
+                if told in (0, number):
+                    self.assertEqual(first[9:] + self.data[42:], from_ogg(self.file(pages)[0]))
+                else:
+                    self.check(Disagreement, 0, 35, pages)
 
     def test_packets_whatever_they_contain(self):
         # The first further packet whose first byte is 128 or more is the last block, though these are none.

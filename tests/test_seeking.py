@@ -405,7 +405,8 @@ class ErrorsTest(Case):
             for sample in (0, 16, 32, 52):
                 self.assertEqual(sample // 16 * 16, find_frame(data, sample)[1])
             # An earlier frame does not count.
-            self.assertEqual([row[2:] for row in join_rows((32, 48, 53))], decode_from(data, 34))
+            for sample in (32, 34):
+                self.assertEqual([row[sample - 32:] for row in join_rows((32, 48, 53))], decode_from(data, sample))
             self.assertEqual([[], []], decode_from(data, 53))
         # The errors of reading come first.
         data[places[1] + 30] ^= 1

@@ -246,6 +246,8 @@ class ErrorsTest(Case):
         self.check(Truncated, len(whole) - 1, whole[:-1])
         whole = file_of(form(), chunk(b"LIST", [1, 2], 2 ** 32 - 1), self.SAMPLES)
         self.check(Truncated, len(whole), whole)
+        whole = file_of(form(), chunk(b"LIST", [1, 2], 2 ** 24 + 2), self.SAMPLES)
+        self.check(Truncated, len(whole), whole)
         whole = file_of(form(), chunk(b"data", [1, 2], 4))
         self.check(Truncated, len(whole), whole)
 
