@@ -39,9 +39,7 @@ class Feeder:
         while event is not None:
             events.append(event)
             event = self._event()
-        self._start += self._at
-        self._held = self._held[self._at:]
-        self._at = 0
+        self._forget()
         return events
 
     def finish(self):
@@ -62,6 +60,14 @@ class Feeder:
     def waiting(self):
         """The number of bytes that have arrived and wait for what completes them."""
         return len(self._held)
+
+    def _forget(self):
+        """Keep only the bytes that are not read yet."""
+        # Without this test, bytes that wait for a long block would be copied whenever a piece arrives.
+        if self._at > 0:
+            self._start += self._at
+            self._held = self._held[self._at:]
+            self._at = 0
 
     def _event(self):
         """The next event that the bytes decide, or None."""

@@ -297,6 +297,6 @@ class ExamplesTest(unittest.TestCase):
     def test_examples_of_the_readme(self):
         with open(README, encoding="ascii") as file:
             found = re.findall("```python\n(.*?)```", file.read(), flags=re.DOTALL)
-        self.assertEqual(2, len(found))
+        self.assertEqual(3, len(found))
         for text in found:
             exec(compile(text, README, "exec"), {})
