@@ -5,6 +5,7 @@ from monochord.blocks import blocks_of, read_blocks
 from monochord.errors import Disagreement, MonochordError
 from monochord.frame import read_frame
 from monochord.header import read_header
+from monochord.sequence import has_form
 
 _SEEKTABLE = 3
 
@@ -109,7 +110,7 @@ def _belongs(header, info, first_header):
     """True if a header belongs to a stream; before the first header is known, any strategy does."""
     if first_header is not None and header.variable != first_header.variable:
         return False
-    return header.rate == info.rate and header.channels == info.channel_count and header.depth == info.depth
+    return has_form(header, info)
 
 
 def _frame_at(data, place, info):

@@ -30,6 +30,11 @@ def no_frames():
     return Earlier(0, 0, None, None, None, True)
 
 
+def has_form(header, info):
+    """True if a header has the rate, the number of channels and the depth of the stream info."""
+    return header.rate == info.rate and header.channels == info.channel_count and header.depth == info.depth
+
+
 def fault_behind(info, earlier, header, length):
     """The name of the fault of a frame with so many bytes behind earlier ones, or None."""
     if header.number != (earlier.samples if header.variable else earlier.count):
@@ -70,7 +75,7 @@ def _is_of_the_stream(info, earlier, header):
     """True if a frame has the strategy of the frames before it and the form of the stream info."""
     if earlier.count > 0 and header.variable != earlier.variable:
         return False
-    return header.rate == info.rate and header.channels == info.channel_count and header.depth == info.depth
+    return has_form(header, info)
 
 
 def _size_allowed(info, earlier, header):

@@ -1,7 +1,8 @@
 """Chapter 18: metadata blocks."""
 
 from monochord.blocks import (
-    blocks_of, body_length, is_regular, read_block, read_blocks, read_marker, write_blocks, write_body,
+    blocks_of, body_length, is_regular, metadata_bytes, read_block, read_blocks, read_marker, write_blocks,
+    write_body,
 )
 from monochord.comments import Comments, write_comments
 from monochord.cuesheet import CueSheet, CueTrack, write_cuesheet
@@ -91,6 +92,7 @@ class WritingAndReadingTest(Case):
         self.assertIs(True, self.unchanged(is_regular, blocks))
         data = metadata(blocks)
         self.assertEqual(data, self.unchanged(write_blocks, blocks))
+        self.assertEqual(len(data), self.unchanged(metadata_bytes, blocks))
         self.assertEqual((blocks, len(data)), self.unchanged(read_blocks, data))
         for before in ([], [0], [102, 76, 97, 67, 255]):
             for behind in ([], [0], [255] * 5):

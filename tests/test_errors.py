@@ -42,3 +42,13 @@ class ErrorsTest(unittest.TestCase):
     def test_errors_of_one_class_keep_their_own_places(self):
         first, second = errors.Truncated(1), errors.Truncated(2)
         self.assertEqual((1, 2), (first.place, second.place))
+
+    def test_errors_raised_by_their_names(self):
+        # Those with which decoding ends.
+        for name in NAMES:
+            if name not in ("TooLong", "InvalidPage", "InvalidEdit"):
+                with self.subTest(name):
+                    with self.assertRaises(MonochordError) as context:
+                        errors.raise_named(name, 41)
+                    self.assertIs(getattr(errors, name), context.exception.__class__)
+                    self.assertEqual(41, context.exception.place)
