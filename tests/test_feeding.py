@@ -25,8 +25,10 @@ def decided_by(data):
     """The events that some first bytes of a stream decide, by points 25.1, 25.2 and 25.4."""
     events = events_of(data)
     last = events[-1]
-    # The checks at the end have the length as their place, and all bytes belong to frames then.
-    if last[0] == "end" or last[1] == "Truncated" or last[2] == len(data):
+    if last[0] == "end" or last[1] == "Truncated":
+        return events[:-1]
+    # The checks at the end have the length as their place; a frame has at least one byte behind its own place.
+    if last[1] in ("Disagreement", "DigestMismatch") and last[2] == len(data):
         return events[:-1]
     return events
 
@@ -177,6 +179,16 @@ class TimeTest(Case):
         # The checks at the end are no fault before the end.
         for name in ("fewer samples than the total", "digest", "total and digest", "cut off in a frame"):
             self.assertIsNone(self.fault_after(streams[name][0]))
+
+    def test_a_block_without_a_body(self):
+        # It is complete with its head, and the place of its fault is that of the byte behind.
+        data = stream_of(SIZES, blocks=[(2, (7, []))])[0]
+        data[45:50] = [0]
+        self.assertEqual(("InvalidForm", 46), decode(data).fault)
+        self.assertEqual(46, self.fault_after(data))
+        feeder = Feeder()
+        self.assertEqual(1, len(feeder.feed(data[:45])))
+        self.assertEqual([("fault", "InvalidForm", 46)], feeder.feed(data[45:46]))
 
     def test_a_fault_before_the_frame_is_complete(self):
         # A frame of 4096 samples, of which the first few bytes have a fault.
